@@ -1,0 +1,83 @@
+"""Calls written by name, and their answers taken apart; used by all tests."""
+
+from rowsources.books import answers
+
+NUMBERS = {"read": 0, "show": 1, "normal": 2, "same": 3, "row": 4, "nth": 5, "set": 6, "size": 13}
+
+
+def as_bytes(text):
+    """A str (its signs as bytes) or any row of bytes, as a list."""
+    return [ord(sign) for sign in text] if isinstance(text, str) else list(text)
+
+
+def coded(*calls):
+    """The list that answers takes, of calls like ("normal", "name", "Lee, Ann")."""
+    numbers = []
+    for call in calls:
+        numbers.append(NUMBERS[call[0]])
+        for given in call[1:]:
+            if isinstance(given, int):
+                numbers.append(given)
+            else:
+                numbers.extend([len(given)] + as_bytes(given))
+    return numbers
+
+
+def taken_apart(answered):
+    parts = []
+    at = 0
+    while at < len(answered):
+        end = at + 1 + answered[at]
+        if end > len(answered):
+            raise AssertionError(f"an answer is cut off: {answered}")
+        parts.append(answered[at + 1:end])
+        at = end
+    return parts
+
+
+def told(*calls):
+    """The answers of the calls on one new object, a list each."""
+    parts = taken_apart(answers(coded(*calls)))
+    if len(parts) != len(calls):
+        raise AssertionError(f"{len(calls)} calls, but {len(parts)} answers")
+    return parts
+
+
+def last(*calls):
+    return told(*calls)[-1]
+
+
+def lines(*words):
+    """A text of these lines, each ended."""
+    return "".join(word + "\n" for word in words)
+
+
+def text(words):
+    """How a text is answered."""
+    return [len(words)] + as_bytes(words)
+
+
+def texts(*words):
+    """How texts are answered."""
+    answer = [len(words)]
+    for word in words:
+        answer.extend(text(word))
+    return answer
+
+
+def read_of(*words):
+    """What read answers to the text of these lines."""
+    return last(("read", lines(*words)))
+
+
+EXAMPLE = lines(
+    "field name text lower plain sorted",
+    "field born num",
+    "source a",
+    "2: Lee, Ann | 1980",
+    "5: Bo | ",
+    "source b",
+    "1: ANN  LEE | 1981",
+)
+
+NEW = "field a text\n"
