@@ -1,7 +1,8 @@
 """The interface: a list of calls on one new object, and the list of what they answer."""
 
-from rowsources.calls import answer_normal, answer_nth, answer_read, answer_row, answer_same, answer_set
-from rowsources.calls import answer_show, answer_size
+from rowsources.calls import answer_alike, answer_drop, answer_missing, answer_normal, answer_nth, answer_put
+from rowsources.calls import answer_read, answer_row, answer_same, answer_set, answer_show, answer_size, answer_source
+from rowsources.calls import answer_withdraw
 from rowsources.records import new_book
 
 READ = 0
@@ -11,9 +12,18 @@ SAME = 3
 ROW = 4
 NTH = 5
 SET = 6
+PUT = 7
+DROP = 8
+SOURCE = 9
+WITHDRAW = 10
+ALIKE = 11
+MISSING = 12
 
 # For each call's number: how many whole numbers it has, and how many texts behind them.
-SHAPES = {0: (0, 1), 1: (0, 0), 2: (0, 2), 3: (0, 3), 4: (1, 1), 5: (1, 0), 6: (1, 3), 13: (0, 0)}
+SHAPES = {
+    0: (0, 1), 1: (0, 0), 2: (0, 2), 3: (0, 3), 4: (1, 1), 5: (1, 0), 6: (1, 3),
+    7: (0, 2), 8: (1, 1), 9: (0, 1), 10: (0, 1), 11: (1, 2), 12: (0, 1), 13: (0, 0),
+}
 
 
 class Call:
@@ -55,6 +65,18 @@ def answer_call(book, call):
         return answer_nth(book, numbers[0])
     if call.number == SET:
         return answer_set(book, numbers[0], texts[0], texts[1], texts[2])
+    if call.number == PUT:
+        return answer_put(book, texts[0], texts[1])
+    if call.number == DROP:
+        return answer_drop(book, numbers[0], texts[0])
+    if call.number == SOURCE:
+        return answer_source(book, texts[0])
+    if call.number == WITHDRAW:
+        return answer_withdraw(book, texts[0])
+    if call.number == ALIKE:
+        return answer_alike(book, numbers[0], texts[0], texts[1])
+    if call.number == MISSING:
+        return answer_missing(book, texts[0])
     # SHAPES has no other call than size left.
     return answer_size(book)
 

@@ -1,12 +1,10 @@
 """Strict reading: a text's lines taken into a book, up to the first fault."""
 
 from rowsources.fields import field_of_line
-from rowsources.records import Row, Source, are_cells, field_place, rows_in_order, source_called
+from rowsources.records import MOST_FIELDS, MOST_ROWS, MOST_SOURCES, Row, Source, are_cells, field_place, row_count
+from rowsources.records import source_called
 from rowsources.signs import BAR, BLANK, COLON, LINE_END, bytes_of, is_name, is_sign, number_of, split_at
 
-MOST_FIELDS = 5
-MOST_SOURCES = 6
-MOST_ROWS = 24
 LARGEST_ROW_NUMBER = 999
 
 # The reasons of a fault, as the document numbers them; NO_FAULT is none of them.
@@ -73,7 +71,7 @@ def take_row(book, row):
         return ROW_MISPLACED
     if not are_cells(book, row.cells):
         return NO_CELLS
-    if len(rows_in_order(book)) == MOST_ROWS:
+    if row_count(book) == MOST_ROWS:
         return TOO_MANY_ROWS
     rows.append(row)
     return NO_FAULT

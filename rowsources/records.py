@@ -3,6 +3,10 @@
 from rowsources.fields import Field, field_line, is_cell
 from rowsources.signs import LINE_END, bytes_of, joined
 
+MOST_FIELDS = 5
+MOST_SOURCES = 6
+MOST_ROWS = 24
+
 
 class Row:
     """A number, and a cell for each field of the book."""
@@ -60,11 +64,22 @@ def row_known(book, source_name, number):
 
 
 def rows_in_order(book):
-    """For each row a tuple: the number (from 0) of its source, and the row."""
-    places = []
+    """For each row a pair: the number (from 0) of its source, and the row."""
+    pairs = []
     for k, source in enumerate(book.sources):
-        places.extend([(k, row) for row in source.rows])
-    return places
+        pairs.extend([(k, row) for row in source.rows])
+    return pairs
+
+
+def row_count(book):
+    return len(rows_in_order(book))
+
+
+def put_row(source, row):
+    """Put the row where its number belongs, in the place of the one with this number, if there is one."""
+    ahead = [other for other in source.rows if other.number < row.number]
+    behind = [other for other in source.rows if other.number > row.number]
+    source.rows = ahead + [row] + behind
 
 
 def are_cells(book, texts):

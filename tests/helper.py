@@ -2,7 +2,10 @@
 
 from rowsources.books import answers
 
-NUMBERS = {"read": 0, "show": 1, "normal": 2, "same": 3, "row": 4, "nth": 5, "set": 6, "size": 13}
+NUMBERS = {"read": 0, "show": 1, "normal": 2, "same": 3, "row": 4, "nth": 5, "set": 6, "put": 7, "drop": 8, "source": 9,
+           "withdraw": 10, "alike": 11, "missing": 12, "size": 13}
+
+FAR = 10 ** 18
 
 
 def as_bytes(text):
@@ -63,6 +66,31 @@ def texts(*words):
     for word in words:
         answer.extend(text(word))
     return answer
+
+
+def rows(*pairs):
+    """How rows are answered: pairs of a source's number and a row's own."""
+    answer = [len(pairs)]
+    for pair in pairs:
+        answer.extend(pair)
+    return answer
+
+
+def after(book, *calls):
+    """The answers of the calls behind a read of the book, and the text that is shown behind each of them."""
+    both = [("read", book)]
+    for call in calls:
+        both.extend([call, ("show",)])
+    answered = told(*both)[1:]
+    shown = [as_str(answer) for answer in answered[1::2]]
+    return list(zip(answered[::2], shown))
+
+
+def as_str(answer):
+    """The str of an answered text."""
+    if answer[0] != len(answer) - 1:
+        raise AssertionError(f"no text's answer: {answer}")
+    return "".join(chr(byte) for byte in answer[1:])
 
 
 def read_of(*words):

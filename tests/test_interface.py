@@ -5,7 +5,28 @@ import io
 import unittest
 
 from rowsources.books import answers
-from tests.helper import EXAMPLE, NEW, coded, last, lines, text, texts, told
+from tests.helper import EXAMPLE, NEW, coded, last, lines, rows, text, texts, told
+
+# Each call with what it answers, in one list on a new object.
+ALL_CALLS = [
+    (("size",), [1, 0, 0, 0]),
+    (("read", EXAMPLE), [0, 2, 2, 3]),
+    (("normal", "name", "Lee, Ann"), text("ann lee")),
+    (("same", "name", "a", "A"), [1]),
+    (("row", 5, "a"), texts("Bo", "")),
+    (("nth", 2), [1, 1] + texts("ANN  LEE", "1981")),
+    (("set", 5, "a", "name", "ann-lee"), [1]),
+    (("source", "c"), [3]),
+    (("put", "c", "9: LEE ANN | "), [1]),
+    (("put", "c", "9: Ann Lee | "), [0]),
+    (("alike", 2, "a", "name"), rows((0, 2), (0, 5), (1, 1), (2, 9))),
+    (("missing", "born"), rows((0, 5), (2, 9))),
+    (("drop", 2, "a"), [3]),
+    (("withdraw", "b"), [1]),
+    (("show",), text(lines("field name text lower plain sorted", "field born num", "source a", "5: ann-lee | ", "source c",
+                           "9: Ann Lee | "))),
+    (("size",), [2, 2, 2, 2]),
+]
 
 
 class Interface(unittest.TestCase):
@@ -20,6 +41,30 @@ class Interface(unittest.TestCase):
         self.assertEqual(answers([3, 1, 97, 1, 65, 1, 66]), [1, 0])
         self.assertEqual(answers([4, -(10 ** 18), 1, 97]), [1, -4])
         self.assertEqual(answers([6, 10 ** 18, 0, 0, 0]), [1, -4])
+        self.assertEqual(answers([7, 1, 97, 0]), [1, -4])
+        self.assertEqual(answers([8, -(10 ** 18), 1, 97]), [1, -4])
+        self.assertEqual(answers([9, 2, 97, 57]), [1, 1])
+        self.assertEqual(answers([9, 0]), [1, -1])
+        self.assertEqual(answers([10, 1, 97]), [1, -4])
+        self.assertEqual(answers([11, 10 ** 18, 1, 97, 1, 97]), [1, -4])
+        self.assertEqual(answers([12, 1, 97]), [1, 0])
+        self.assertEqual(answers([12, 0]), [1, -3])
+
+    def test_new_calls_as_they_stand(self):
+        source = [9, 1, 120]
+        put = [7, 1, 120, 4, 53, 58, 32, 81]
+        self.assertEqual(answers(source + put + [13]), [1, 1, 1, 1, 4, 1, 1, 1, 1])
+        self.assertEqual(answers(source + put + put + [11, 5, 1, 120, 1, 97]), [1, 1, 1, 1, 1, 0, 3, 1, 0, 5])
+        self.assertEqual(answers(source + put + [6, 5, 1, 120, 1, 97, 0, 12, 1, 97]), [1, 1, 1, 1, 1, 1, 3, 1, 0, 5])
+        self.assertEqual(answers(source + put + [8, 5, 1, 120, 8, 5, 1, 120]), [1, 1, 1, 1, 1, 0, 1, -4])
+        self.assertEqual(answers(source + put + [10, 1, 120, 10, 1, 120]), [1, 1, 1, 1, 1, 1, 1, -4])
+
+    def test_all_fourteen_calls_in_one_list(self):
+        expected = []
+        for answer in [answer for call, answer in ALL_CALLS]:
+            expected.extend([len(answer)] + answer)
+        self.assertEqual(len({call[0] for call, answer in ALL_CALLS}), 14)
+        self.assertEqual(answers(coded(*[call for call, answer in ALL_CALLS])), expected)
 
     def test_several_calls_in_one_list(self):
         calls = coded(("size",), ("read", EXAMPLE), ("nth", 2), ("nth", 3), ("row", 5, "a"),
@@ -38,13 +83,15 @@ class Interface(unittest.TestCase):
 
     def test_only_whole_numbers_in_a_list(self):
         answered = answers(coded(("read", EXAMPLE), ("same", "name", "a", "A"), ("same", "name", "a", "b"),
-                                 ("set", 2, "a", "name", "x"), ("set", 2, "a", "name", "x"), ("size",), ("show",)))
+                                 ("set", 2, "a", "name", "x"), ("set", 2, "a", "name", "x"), ("size",), ("show",),
+                                 *[call for call, answer in ALL_CALLS]))
         self.assertIs(answered.__class__, list)
         self.assertEqual({number.__class__ for number in answered}, {int})
 
     def test_list_handed_in_stays(self):
         calls = coded(("read", EXAMPLE), ("set", 5, "a", "born", "3"), ("set", 5, "a", "born", ""), ("nth", 1),
-                      ("normal", "name", "B a"), ("read", lines("field a num")), ("show",))
+                      ("normal", "name", "B a"), ("read", lines("field a num")), ("show",),
+                      *[call for call, answer in ALL_CALLS])
         before = list(calls)
         answers(calls)
         self.assertEqual(calls, before)
@@ -57,7 +104,7 @@ class Interface(unittest.TestCase):
             append = extend = insert = pop = remove = clear = sort = reverse = refuse
             __setitem__ = __delitem__ = __iadd__ = __imul__ = refuse
 
-        calls = coded(("read", EXAMPLE), ("set", 5, "a", "born", "3"), ("nth", 1), ("show",))
+        calls = coded(*[call for call, answer in ALL_CALLS])
         self.assertEqual(answers(Watched(calls)), answers(calls))
 
     def test_answer_is_a_list_of_its_own(self):
@@ -66,18 +113,20 @@ class Interface(unittest.TestCase):
         self.assertEqual(answers(calls), [2, 1, 120])
 
     def test_same_list_twice(self):
-        calls = coded(("show",), ("read", EXAMPLE), ("set", 5, "a", "born", "3"), ("show",))
+        calls = coded(("show",), *[call for call, answer in ALL_CALLS], ("show",))
         self.assertEqual(answers(calls), answers(calls))
 
     def test_nothing_is_kept(self):
         self.assertEqual(last(("read", EXAMPLE), ("show",)), text(EXAMPLE))
         self.assertEqual(last(("show",)), text(NEW))
         self.assertEqual(last(("row", 2, "a")), [-4])
+        self.assertEqual(told(("source", "x"), ("put", "x", "1: a")), [[1], [1]])
+        self.assertEqual(told(("source", "x"), ("put", "x", "1: a")), [[1], [1]])
 
     def test_nothing_is_printed(self):
         out = io.StringIO()
         with contextlib.redirect_stdout(out), contextlib.redirect_stderr(out):
-            told(("read", EXAMPLE), ("read", ""), ("show",), ("nth", 9))
+            told(("read", EXAMPLE), ("read", ""), ("show",), ("nth", 9), *[call for call, answer in ALL_CALLS])
         self.assertEqual(out.getvalue(), "")
 
     def test_long_texts(self):

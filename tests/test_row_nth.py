@@ -2,9 +2,7 @@
 
 import unittest
 
-from tests.helper import EXAMPLE, last, lines, text, texts, told
-
-FAR = 10 ** 18
+from tests.helper import EXAMPLE, FAR, last, lines, text, texts, told
 
 SPARSE = lines("field n num", "field t text lower", "source none", "source z", "3: 1 | A  b", "999:  | ",
                "source between", "source a", "1: -5 | x", "2:  | y", "source end")

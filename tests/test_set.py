@@ -2,9 +2,7 @@
 
 import unittest
 
-from tests.helper import EXAMPLE, last, lines, text, texts, told
-
-FAR = 10 ** 18
+from tests.helper import EXAMPLE, FAR, last, lines, text, texts, told
 
 
 class SetCall(unittest.TestCase):
